@@ -1,0 +1,1 @@
+"""Turnsame: programs turned, and papers that show that they tell the same."""
