@@ -18,6 +18,7 @@ CASES = [
     ("a b", [("", "a"), (" ", "b")], ""),
     ("a  \n b\n", [("", "a"), ("  \n ", "b")], "\n"),
     ("!~#\"'[]{}@A9_-", [("", "!~#\"'[]{}@A9_-")], ""),
+    ("qrs abcdefghijklmnopqrstuvwxyz", [("", "qrs"), (" ", "abcdefghijklmnopqrstuvwxyz")], ""),
     # brackets are words of their own
     ("()", [("", "("), ("", ")")], ""),
     ("(a)", [("", "("), ("", "a"), ("", ")")], ""),
