@@ -96,15 +96,28 @@ def walked(e):
     return met
 
 
+def taken_off(built, many):
+    """Takes as many expressions off the end of a list: they are told, the last one first."""
+    told = built[len(built) - many:]
+    del built[len(built) - many:]
+    return told[::-1]
+
+
 def rebuilt(met):
     """The expression that a walk met, put together of what stands in the walk now, whatever children it told."""
     # From the walk's end on, an expression's children lie on top, the first one uppermost.
     built = []
     for node in met[::-1]:
-        many = len(children_of(node))
-        children = built[len(built) - many:]
-        del built[len(built) - many:]
-        built.append(with_children(node, children[::-1]))
+        built.append(with_children(node, taken_off(built, len(children_of(node)))))
+    return built[0]
+
+
+def rewritten(e, change, what):
+    """The expression with each one in it, the inner ones first, told anew as change(expression, what) tells it."""
+    built = []
+    for node in walked(e)[::-1]:
+        told = with_children(node, taken_off(built, len(children_of(node))))
+        built.append(change(told, what))
     return built[0]
 
 
@@ -117,6 +130,8 @@ def scoped_children(e, outer, inner):
 
 def with_entries(table, ids, told):
     """The dict, which stays as it is, with what is told for each of the ids."""
+    if not ids:
+        return table
     entries = dict(table)
     for number, thing in zip(ids, told):
         entries[number] = thing
