@@ -19,25 +19,30 @@ def body_of(text, function=0):
     return core_of(text)[0][function][2]
 
 
-def unmarked(text):
-    """The text without its mark, an @ right ahead of a word or at the end, and the number of the token marked."""
+def marks_of(text):
+    """The text without its marks, and the numbers of the tokens marked: @ is the place asked, ^ the one told."""
     words = [word for _, word in tokens_of(text)[0]]
-    marks = [number for number, word in enumerate(words) if word.startswith("@")]
-    if not marks:
-        return text, None
-    return text.replace("@", ""), marks[0]
+    marked = {}
+    for number, word in enumerate(words):
+        while word and word[0] in "@^":
+            marked[word[0]] = number
+            word = word[1:]
+    return text.replace("@", "").replace("^", ""), marked
+
+
+def asked_program(*texts):
+    """A program, the place marked by @ in it, and the one marked by ^, or None."""
+    plain, places = [], {}
+    for part, text in enumerate(texts):
+        without, marked = marks_of(text)
+        plain.append(without)
+        places.update({sign: (part, at) for sign, at in marked.items()})
+    return program_of(*plain), places.get("@"), places.get("^")
 
 
 def marked_program(*texts):
-    """A program, and the place marked in it, or None."""
-    place = None
-    plain = []
-    for part, text in enumerate(texts):
-        without, at = unmarked(text)
-        plain.append(without)
-        if at is not None:
-            place = (part, at)
-    return program_of(*plain), place
+    """A program, and the place marked by @ in it, or None."""
+    return asked_program(*texts)[:2]
 
 
 def fault_of(program):

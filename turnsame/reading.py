@@ -111,6 +111,10 @@ class Read:
         """All places that tell the thing, rising."""
         return list(self.walk.places.get(thing, []))
 
+    def all_places(self):
+        """All places that tell a thing, rising, each with its thing."""
+        return sorted(self.walk.meant.items())
+
     def node_at(self, part, at):
         """The expression that begins at the token, as (function, path), or None."""
         return self.walk.nodes.get((part, at))
