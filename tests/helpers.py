@@ -21,12 +21,14 @@ def body_of(text, function=0):
 
 def marks_of(text):
     """The text without its marks, and the numbers of the tokens marked: @ is the place asked, ^ the one told."""
-    words = [word for _, word in tokens_of(text)[0]]
     marked = {}
-    for number, word in enumerate(words):
+    number = 0
+    for _, word in tokens_of(text)[0]:
         while word and word[0] in "@^":
             marked[word[0]] = number
             word = word[1:]
+        # Ahead of a bracket, or at the end, a mark is a word by itself, which goes.
+        number += 1 if word else 0
     return text.replace("@", "").replace("^", ""), marked
 
 
