@@ -91,6 +91,11 @@ class Unfold(Steps):
                    "(function g (a) (idle (says a))) (open f () (let a 1 (idle (says a))))")
         self.right("unfold", "(deep h (a) @(g a)) (function g (a) (h a))", "(deep h (a) (let a a (h a))) (function g (a) (h a))")
 
+    def test_of_an_open_one(self):
+        # No right core has such a call; it is no call of a "function" either.
+        core = (("open", 0, ("number", 1)), ("deep", 0, ("call", 0, ()))), (), (("f", 0),)
+        self.assertRaises(NoStep, stepped, core, ("unfold", 1, ()))
+
     def test_wrong(self):
         self.wrong("unfold", "(open f () @(far 1))")
         self.wrong("unfold", "(deep f () @(f))")
