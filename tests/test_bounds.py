@@ -46,6 +46,17 @@ class Bounds(unittest.TestCase):
             bounded_turning(program, 0, 2, edits, paper)
         self.assertEqual((caught.exception.word, caught.exception.part, caught.exception.at), ("many", 0, 2))
 
+    def test_papers(self):
+        # What is right by its bounds, but has a paper that is not let by, is told by none.
+        program = program_of("(open f () (if 1 2 3))")
+        edits = [(0, 7, 1, " (not 1)"), (0, 8, 1, " 3"), (0, 9, 1, " 2")]
+        paper = ((), (("flip", 0, ()),), (0,), (), ())
+        self.assertEqual(bounded_turning(program, 0, 5, edits, paper), (edits, paper))
+        for wrong in (((), (("flip", 0, (0,)),), (0,), (), ()), ((("flip", 0, ()),), (), (0,), (), ())):
+            with self.assertRaises(NoTurn) as caught:
+                bounded_turning(program, 0, 5, edits, wrong)
+            self.assertEqual((caught.exception.word, caught.exception.part, caught.exception.at), ("many", 0, 5))
+
 
 if __name__ == "__main__":
     unittest.main()

@@ -3,7 +3,7 @@
 import itertools
 import unittest
 
-from makers import Maker
+from stepmakers import StepMaker
 from plainrules import PlainRules, everything, kids
 from turnsame.checking import back_paper, checked
 from turnsame.cores import right_core
@@ -14,58 +14,6 @@ from turnsame.running import run
 MANY = 250
 PLACED = ("unfold", "spread", "now", "flip", "flat")
 COUNTED = ("drop", "swap", "part")
-
-
-class StepMaker(Maker):
-    """Makes more of what steps are for."""
-
-    def brackets(self, deep, path, scope):
-        ways = [self.binder, self.binder, self.binder, self.sum, self.many, self.many, self.over, self.turned, self.row]
-        ways += [self.fun, self.said, self.op, self.plain] if self.chance.random() < 0.7 else [self.applied, self.fault]
-        if self.seen(scope, True):
-            ways += [self.laid, self.laid]
-        if self.records:
-            ways += [self.new, self.new, self.get]
-        if self.callable_ones():
-            ways += [self.call, self.call, self.call]
-        self.lay("(")
-        told = self.chance.choice(ways)(deep, path, scope)
-        self.lay(")")
-        return told
-
-    def sum(self, deep, path, scope):
-        word = self.chance.choice(("add", "sub", "same", "less"))
-        self.lay(word)
-        return ("op", word, self.all_of(2, deep, path, scope))
-
-    def said(self, deep, path, scope):
-        self.lay("say")
-        return ("say",) + self.all_of(1, deep, path, scope)
-
-    def many(self, deep, path, scope):
-        self.lay("do")
-        return ("do", self.all_of(self.chance.randint(1, 4), deep, path, scope))
-
-    def over(self, deep, path, scope):
-        """An each whose body is a do."""
-        self.lay("each")
-        binder = self.bind(self.chance.choice("abc"), False)
-        thing = self.expression(min(deep - 1, 1), path + (0,), scope)
-        first = len(self.rows[self.part])
-        self.nodes[(self.part, first)] = (self.number, path + (1,))
-        self.lay("(")
-        body = self.many(max(deep - 1, 1), path + (1,), scope + (binder,))
-        self.lay(")")
-        return ("each", binder[1], thing, body)
-
-    def turned(self, deep, path, scope):
-        """An if of a not."""
-        self.lay("if", "(", "not")
-        self.nodes[(self.part, len(self.rows[self.part]) - 2)] = (self.number, path + (0,))
-        test = self.expression(deep - 1, path + (0, 0), scope)
-        self.lay(")")
-        one = self.expression(deep - 1, path + (1,), scope)
-        return ("if", ("op", "not", (test,)), one, self.expression(deep - 1, path + (2,), scope))
 
 
 def paths(e, path=()):

@@ -4,25 +4,15 @@ import unittest
 
 from makers import Maker
 from plainnames import PlainNames
-from turnings import Turnings
-from turnsame.errors import NoTurn
+from turnings import Turnings, answer
 from turnsame.moving import moved
 from turnsame.reading import Read
 from turnsame.renaming import renamed
-from turnsame.running import run
 from turnsame.tokens import text_of, tokens_of
 from turnsame.words import is_name
 
 MANY = 150
 NAMES = ("a", "b", "c", "v", "fa", "fb", "fc", "rx", "ry", "do", "")
-
-
-def asked(ask, program, place, more):
-    """What is told, or why it is refused and where."""
-    try:
-        return ask(program, *place, *more)
-    except NoTurn as refusal:
-        return refusal.word, refusal.part, refusal.at
 
 
 def rows_of(program):
@@ -85,17 +75,9 @@ def moved_plainly(program, place, other):
 
 
 class Made(Turnings):
-    def same_runs(self, maker, program, told, opens):
-        one, other = Read(program).core(), Read(told).core()
-        names = dict(opens)
-        for name, number in other[2]:
-            values = [maker.chance.choice((0, 1, 5, (), (1, 2))) for _ in range(other[0][number][1])]
-            for bound in (0, 2, 20):
-                self.assertEqual(run(other, name, values, bound), run(one, names.get(name, name), values, bound))
-
     def alike(self, maker, ask, plainly, program, place, more, met):
         """The program behind the turning, or as it is, where it is refused."""
-        told = asked(ask, program, place, more)
+        told = answer(ask, program, place, more)
         wanted = plainly(program, place, *more)
         if len(told) == 3:
             self.assertEqual(told, wanted, (program, place, more))
@@ -103,7 +85,7 @@ class Made(Turnings):
             return program
         behind = self.sound(program, *told)
         self.assertEqual(behind, wanted, (program, place, more))
-        self.same_runs(maker, program, behind, told[1][4])
+        self.same_runs(maker.chance, program, behind, told[1][4])
         met["told"] = met.get("told", 0) + 1
         return behind
 

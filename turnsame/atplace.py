@@ -82,13 +82,16 @@ def first_path(ground, e, x):
     return path
 
 
+def now_path(ground, x, body):
+    """The path to x in the body, where it stands there just once, at its first place; or None."""
+    return first_path(ground, body, x) if walked(body).count(("name", x)) == 1 else None
+
+
 def now(core, step, e):
     if e[0] != "let":
         return None
     word, x, thing, body = e
-    if walked(body).count(("name", x)) != 1:
-        return None
-    path = first_path(ground_of(core, step[1]), body, x)
+    path = now_path(ground_of(core, step[1]), x, body)
     return None if path is None else put_at(body, path, thing)
 
 

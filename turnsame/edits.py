@@ -57,12 +57,15 @@ def laid_rows(rows, edits):
     return told
 
 
+def meets(ahead, token):
+    """True where the token, for want of a gap, would run into the one ahead of it."""
+    gap, word = token
+    return gap == "" and word not in ("(", ")") and ahead[1] not in ("(", ")")
+
+
 def runs_in(row, at):
-    """True where token at, without a gap, would run into the word ahead of it."""
-    if not 0 < at < len(row):
-        return False
-    gap, word = row[at]
-    return gap == "" and word not in ("(", ")") and row[at - 1][1] not in ("(", ")")
+    """True where token at would run into the word ahead of it."""
+    return 0 < at < len(row) and meets(row[at - 1], row[at])
 
 
 def refuse_run_in(rows, edits):

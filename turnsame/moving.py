@@ -2,19 +2,10 @@
 
 from turnsame.bounds import bounded_turning
 from turnsame.errors import NoTurn
+from turnsame.places import is_told_at, is_within, refuse_least
 from turnsame.reading import Read
 from turnsame.shades import name_place, shaded_uses, tables_of, uses_of, word_at
 from turnsame.tokens import text_of, tokens_of
-
-
-def is_told_at(read, thing, place):
-    """True where the thing is a function or a record whose name in its form stands at the place."""
-    return thing is not None and thing[0] in ("function", "record") and name_place(read, thing) == place
-
-
-def is_within(span, place):
-    part, first, count = span
-    return place[0] == part and first <= place[1] < first + count
 
 
 def tables_then(read, sort, thing, other):
@@ -48,10 +39,7 @@ def refuse_moved(read, thing, other):
     if number is not None:
         part, at = name_place(read, (thing[0], number))
         raise NoTurn("used", part, at)
-    shaded = shaded_by_move(read, thing, other)
-    if shaded:
-        part, at = min(shaded)
-        raise NoTurn("shade", part, at)
+    refuse_least("shade", shaded_by_move(read, thing, other))
 
 
 def move_edits(program, span, other):

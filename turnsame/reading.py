@@ -119,6 +119,10 @@ class Read:
         """The expression that begins at the token, as (function, path), or None."""
         return self.walk.nodes.get((part, at))
 
+    def all_nodes(self):
+        """All places at which an expression begins, rising, each with its (function, path)."""
+        return sorted(self.walk.nodes.items())
+
     def span_of(self, function, path):
         """An expression's tokens, as (part, first, count), or None."""
         return self.walk.spans.get((function, path))

@@ -3,10 +3,11 @@
 from turnsame.bounds import bounded_turning
 from turnsame.cores import bound_by, walked
 from turnsame.errors import NoTurn
+from turnsame.fitting import token_rows
 from turnsame.papers import plain_paper
+from turnsame.places import is_set, refuse_least
 from turnsame.reading import Read
-from turnsame.shades import name_place, shaded_uses, tables_of, uses_of, word_at
-from turnsame.tokens import tokens_of
+from turnsame.shades import innermost, name_place, shaded_uses, tables_of, uses_of, word_at
 from turnsame.words import is_name
 
 
@@ -45,25 +46,14 @@ def places_beside(read, thing):
 
 def refuse_used(read, thing, name):
     used = [place for place in places_beside(read, thing) if word_at(read, place) == name]
-    if used:
-        part, at = min(used)
-        raise NoTurn("used", part, at)
+    refuse_least("used", used)
 
 
 def scope_at(read, place):
     """The names seen by a token that means a local; None where the token binds it."""
     part, at = place
-    is_set = word_at(read, (part, at - 1)) == "set"
-    node = read.node_at(part, at - 2) if is_set else read.node_at(part, at)
+    node = read.node_at(part, at - 2) if is_set(read, place) else read.node_at(part, at)
     return None if node is None else read.names_at(node[0], node[1])
-
-
-def innermost(scope, word):
-    """The id of the innermost binder of the word in the scope, or None."""
-    for name, number in scope[::-1]:
-        if name == word:
-            return number
-    return None
 
 
 def shaded_locals(read, thing, name):
@@ -101,14 +91,12 @@ def refuse_shade(read, thing, name):
         shaded = shaded_locals(read, thing, name)
     elif thing[0] != "field":
         shaded = shaded_calls(read, thing, name)
-    if shaded:
-        part, at = min(shaded)
-        raise NoTurn("shade", part, at)
+    refuse_least("shade", shaded)
 
 
 def name_edits(program, places, name):
     """Edits that lay the name at each of the places, each with its gap as it was."""
-    rows = [tokens_of(text)[0] for part_name, text in program]
+    rows = token_rows(program)
     return [(part, at, 1, rows[part][at][0] + name) for part, at in places]
 
 

@@ -33,3 +33,11 @@ def uses_of(read, sort):
 def shaded_uses(tables, asked):
     """The places at which another function (record) would be meant, by its tables as they would be then."""
     return [place for place, part, word, number in asked if meant_number(tables, part, word) != number]
+
+
+def innermost(scope, word):
+    """The id of the innermost binder of the word in the scope, a list of (name, id); or None."""
+    for name, number in scope[::-1]:
+        if name == word:
+            return number
+    return None
