@@ -239,3 +239,25 @@ def spread_plainly(program, place):
     changes = [place + (thing.last - expr.first + 1, ""), (expr.part, expr.last, 1, "")]
     changes += [change(trees, trees.exprs[spot], trees.signs(thing)) for spot in spots]
     return told(program, changes, there=[step_of(trees, "spread" if can_spread else "now", expr)])
+
+
+def inplace_plainly(program, place):
+    trees = PlainTrees(program)
+    call = trees.exprs.get(place)
+    if call is None or call.word != "call":
+        return ("name",) + place
+    if trees.word((call.called[0], call.called[1] - 1)) == "deep":
+        return ("deep",) + place
+    _, _, params, body = trees.forms[call.called]
+    names = [trees.word(param) for param in params]
+    shaded = [spot for k, kid in enumerate(call.kids) for spot, _ in trees.outer(kid) if trees.word(spot) in names[:k]]
+    for spot, thing in trees.meant.items():
+        if body.has(spot) and thing in trees.functions + trees.records:
+            tables = trees.names.functions if thing in trees.functions else trees.names.records
+            found = [table[trees.word(spot)] for table in [tables[call.part]] + tables if trees.word(spot) in table]
+            if found[0] != thing:
+                shaded.append(spot)
+    if shaded:
+        return least("shade", shaded)
+    text = "".join(f"(let {name} {trees.signs(kid)} " for name, kid in zip(names, call.kids)) + trees.signs(body) + ")" * len(names)
+    return told(program, [change(trees, call, text)], there=[step_of(trees, "unfold", call)])

@@ -10,9 +10,12 @@ from turnsame.bounds import is_bounded
 from turnsame.drawing import drawn
 from turnsame.edits import edited
 from turnsame.fields import moved_field
+from turnsame.inplace import put_in_place
+from turnsame.moving import moved
 from turnsame.naming import named, spread
 from turnsame.params import put_param, take_param
 from turnsame.reading import Read
+from turnsame.renaming import renamed
 from turnsame.tokens import tokens_of
 from turnsame.turning import flipped, parted
 
@@ -85,6 +88,30 @@ class Made(Turnings):
             trees = PlainTrees(program)
             return [param for form in trees.functions for param in trees.forms[form][2]]
         self.walk(take_param, plain.take_plainly, places, lambda chance: (), ("name", "open", "used", "deed"), 20)
+
+    def test_put_in_place(self):
+        met = {}
+        for chance, program in self.programs():
+            program = self.renamed_alike(chance, program + (("more", ""),))
+            for _ in range(5):
+                calls = self.expressions(program, "call")
+                place = chance.choice(calls) if calls and chance.random() < 0.95 else self.any_place(chance, program)
+                program = self.alike(chance, put_in_place, plain.inplace_plainly, program, place, (), met)
+                if any(len(text) > 4000 for _, text in program):
+                    break
+        self.assertEqual(sorted(met), ["deep", "name", "shade", "told"])
+        self.assertGreater(min(met.values()), 3, met)
+
+    def renamed_alike(self, chance, program):
+        """The program with functions and records moved and renamed, so that those of several parts have like names."""
+        for _ in range(12):
+            trees = PlainTrees(program)
+            place = chance.choice(sorted(trees.forms))
+            told = answer(renamed, program, place, (chance.choice("xy"),))
+            if len(told) == 3:
+                told = answer(moved, program, place, (chance.randrange(len(program)),))
+            program = edited(program, told[0]) if len(told) == 2 else program
+        return program
 
     def test_moved_field(self):
         def places(program):

@@ -1,6 +1,6 @@
 import unittest
 
-from turnsame.words import is_name, is_number, number_of
+from turnsame.words import is_count_word, is_name, is_number, number_of
 
 NO_NAMES = (
     "record function deep open let var set do if while each say fault add sub mul div less same at not size "
@@ -49,6 +49,16 @@ class Numbers(unittest.TestCase):
         for word in ("", "-", "--", "--1", "+1", "+", "1-", "1-1", "-1-", "- 1", " 1", "1 ", "1\n", "1_0", "1.0",
                      "1,0", "1a", "a", "0x1", "1e3", "(1", "1/1", "1:"):
             self.assertIs(is_number(word), False, word)
+
+
+class Counts(unittest.TestCase):
+    def test_counts(self):
+        for word in ("0", "1", "9", "10", "100", "32768", "9" * 40, "1" + "0" * 40):
+            self.assertIs(is_count_word(word), True, word)
+
+    def test_others(self):
+        for word in ("", "00", "01", "-1", "-0", "+1", "-", " 1", "1 ", "1\n", "1.0", "1_0", "a", "0a", "a0", "0x1"):
+            self.assertIs(is_count_word(word), False, word)
 
 
 if __name__ == "__main__":

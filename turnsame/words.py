@@ -21,6 +21,11 @@ def is_figures(word):
     return all(["0" <= sign <= "9" for sign in word])
 
 
+def is_count_word(word):
+    """True where the text is figures, the first no 0 but in 0 itself."""
+    return len(word) > 0 and is_figures(word) and (word == "0" or word[0] != "0")
+
+
 def in_bounds(number):
     return LEAST_NUMBER <= number <= GREATEST_NUMBER
 
