@@ -124,7 +124,7 @@ class Requests(DeskTest):
     def test_as_what_it_asks_refuses(self):
         self.lay()
         for row, word, place in (
-            ("rename main 0 q", "name", (0, 0)), ("rename main 4 Q", "name", (0, 4)), ("rename main 4 (", "name", (0, 4)), ("rename main 999 q", "name", (0, 999)),
+            ("rename main 0 q", "name", (0, 0)), ("rename main 4 Q", "name", (0, 4)), ("rename main 4 (", "name", (0, 4)), ("rename main 4 !", "name", (0, 4)), ("rename main 4 ~;)", "name", (0, 4)), ("rename main 999 q", "name", (0, 999)),
             ("rename main 4 " + "q" * 30, "name", (0, 4)), ("draw main 11 m", "used", (0, 2)),
             ("move more 2 more", "part", (1, 2)), ("put main 2 0 x 5", "open", (0, 2)), ("put more 2 2 x 5", "name", (1, 2)), ("take more 4", "used", (1, 8)),
             ("inplace main 8", "name", (0, 8)), ("flip main 8", "name", (0, 8)), ("part main 8 1", "name", (0, 8)), ("spread main 8", "name", (0, 8)),

@@ -52,6 +52,10 @@ class Told(Fields):
         self.right(0, (0, (2, 0, 1)), "(record r a b @c) (open m () (new r 1 (new r 2 3 4) (new r 5 (new r 6 7 8) 9)))",
                    "(record r c a b) (open m () (new r (new r 9 5 (new r 8 6 7)) 1 (new r 4 2 3)))")
 
+    def test_news_at_like_numbers_of_several_parts(self):
+        self.right(1, (0, (1, 0)), "(open m () (new r (row 1 2 3 4 5 6 7) 2))", "(open n () (say (new r 3 4)))", "(record r @a b)",
+                   "(open m () (new r 2 (row 1 2 3 4 5 6 7)))", "(open n () (say (new r 4 3)))", "(record r b a)")
+
     def test_a_new_within_a_call_within_a_new(self):
         self.right(1, (0, (1, 0)), "(record r @a b) (function f (x) x) (open m () (new r (f (new r 1 2)) 3))",
                    "(record r b a) (function f (x) x) (open m () (new r 3 (f (new r 2 1))))")

@@ -108,6 +108,12 @@ def ground_of(core, function):
     return Ground(vars_of(core[0][function][2]), restless_functions(core[0]))
 
 
+def all_grounds(core):
+    """The ground of each function."""
+    restless = restless_functions(core[0])
+    return [Ground(vars_of(body), restless) for head, count, body in core[0]]
+
+
 def reads(core, function, path):
     """The vars bound outside of the expression that it reads."""
     return ground_of(core, function).read_in(at_path(core[0][function][2], path))

@@ -41,7 +41,6 @@ def say_request(bench, words):
     slots = REQUESTS[words[0]]
     refuse_unless(len(words) == 1 + len(slots))
     things = [thing_of(bench, slot, word) for slot, word in zip(slots, words[1:])]
-    Read(bench.program())
     bench.turn((words[0],) + tuple(things))
     return "ok"
 

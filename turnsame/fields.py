@@ -1,7 +1,7 @@
 """Fields moved among those of their record [58]."""
 
 from turnsame.bounds import bounded_turning
-from turnsame.calm import ground_of
+from turnsame.calm import all_grounds
 from turnsame.errors import NoTurn
 from turnsame.fitting import behind, fitted_edits, taken, token_rows
 from turnsame.papers import plain_paper
@@ -25,9 +25,9 @@ def is_field_at(read, thing, place):
 
 def refuse_deed(read, record):
     """Refuses where a new has more than one thing that is not calm, at the second one of the first such new."""
+    grounds = all_grounds(read.core())
     for function, path, new in nodes_of(read, "new", record):
-        ground = ground_of(read.core(), function)
-        restless = [number for number, thing in enumerate(new[2]) if not ground.calm(thing)]
+        restless = [number for number, thing in enumerate(new[2]) if not grounds[function].calm(thing)]
         if len(restless) > 1:
             refuse_least("deed", [read.span_of(function, path + (restless[1],))[:2]])
 

@@ -15,11 +15,6 @@ def around(asked):
     return at_path(function[2], asked.path[:-1])
 
 
-def is_last_child(asked):
-    """True where the piece is where it sees what the expression right around it binds."""
-    return asked.span(asked.path[:-1] + (asked.path[-1] + 1,)) is None
-
-
 def refuse_bound(asked):
     """Refuses where the piece means a local that the expression right around it binds."""
     bound = bound_by(around(asked))
@@ -29,8 +24,6 @@ def refuse_bound(asked):
 
 def binds_name(asked, name):
     """True where the expression right around the piece binds a local of this name around it."""
-    if not is_last_child(asked):
-        return False
     bound = bound_by(around(asked))
     return any([word == name and number in bound for word, number in asked.read.names_at(asked.function, asked.path)])
 
@@ -99,7 +92,7 @@ def would_shade(read, place, x, meant):
 def refuse_spread_shade(asked, places):
     read = asked.read
     locals_meant = outer_locals(read, asked.span(asked.path + (0,)))
-    meant = [(word_at(read, place), thing[2]) for place, thing in locals_meant]
+    meant = sorted({(word_at(read, place), thing[2]) for place, thing in locals_meant})
     refuse_least("shade", [place for place in places if would_shade(read, place, asked.e[1], meant)])
 
 

@@ -1,6 +1,6 @@
 """The rules for a function or a record as a whole [35]: each tells a core, or None where it is not right."""
 
-from turnsame.calm import Ground, restless_functions, vars_of
+from turnsame.calm import all_grounds
 from turnsame.cores import rewritten, turned_ids, walked
 from turnsame.laying import is_row_of_all, turned_row, with_numbers
 
@@ -48,9 +48,7 @@ def lost(core, step):
 
 def can_drop_things(core, called, k):
     """True where thing k of each call of the function is idle."""
-    restless = restless_functions(core[0])
-    for head, count, body in core[0]:
-        ground = Ground(vars_of(body), restless)
+    for ground, (head, count, body) in zip(all_grounds(core), core[0]):
         for node in walked(body):
             if node[0] == "call" and node[1] == called and not ground.idle(node[2][k]):
                 return False
@@ -82,9 +80,7 @@ def param(core, step):
 
 def can_reorder(core, record):
     """True where in each new of the record at most one thing is not calm."""
-    restless = restless_functions(core[0])
-    for head, count, body in core[0]:
-        ground = Ground(vars_of(body), restless)
+    for ground, (head, count, body) in zip(all_grounds(core), core[0]):
         for node in walked(body):
             if node[0] == "new" and node[1] == record:
                 if len([thing for thing in node[2] if not ground.calm(thing)]) > 1:

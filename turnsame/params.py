@@ -1,7 +1,7 @@
 """Params put into functions, and taken out of them [56], [57]."""
 
 from turnsame.bounds import bounded_turning
-from turnsame.calm import ground_of
+from turnsame.calm import all_grounds
 from turnsame.errors import NoTurn
 from turnsame.fitting import ahead_of, fitted_edits, taken, token_rows
 from turnsame.forms import MOST_PARAMS
@@ -91,9 +91,10 @@ def is_param_at(read, thing, place):
 def refuse_take(read, called, k):
     refuse_open(read, called)
     refuse_least("used", read.places_of(("local", called, k))[1:])
+    grounds = all_grounds(read.core())
     restless = []
     for function, path, call in nodes_of(read, "call", called):
-        if not ground_of(read.core(), function).idle(call[2][k]):
+        if not grounds[function].idle(call[2][k]):
             restless.append(read.span_of(function, path + (k,))[:2])
     refuse_least("deed", restless)
 

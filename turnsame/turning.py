@@ -2,7 +2,7 @@
 
 from turnsame.asking import Asked
 from turnsame.fitting import ahead_of, behind, in_place
-from turnsame.places import refuse_least, sets_among
+from turnsame.places import outer_sets, refuse_least
 
 
 def flipped_test(asked):
@@ -37,26 +37,33 @@ def can_ask_part(asked, k):
 
 
 def met_vars(ground, things):
-    """The vars that the things read or set."""
-    return [number for thing in things for number in ground.read_in(thing) + ground.set_in(thing)]
+    """The vars that the things read or set, as a dict's keys."""
+    return {number: True for thing in things for number in ground.read_in(thing) + ground.set_in(thing)}
+
+
+def refuse_sets(asked, ground, k):
+    """Refuses where a thing of the do sets a var that the row, or a thing on the other side of k, meets."""
+    word, x, over, body = asked.e
+    ones, others = met_vars(ground, body[1][:k]), met_vars(ground, body[1][k:])
+    read = ground.read_in(over)
+    begin = asked.span(asked.path + (1, k))[:2]
+    laid = []
+    for place, number in outer_sets(asked.read, asked.span(asked.path + (1,))):
+        if number in read or number in (others if place < begin else ones):
+            laid.append(place)
+    refuse_least("set", laid)
 
 
 def refuse_part(asked, k):
     ground = asked.ground()
+    refuse_sets(asked, ground, k)
     word, x, over, body = asked.e
-    things = body[1]
-    one, other = met_vars(ground, things[:k]), met_vars(ground, things[k:])
-    # The number of the do is 1, its things are its children.
-    spans = [asked.span(asked.path + (1, number)) for number in range(len(things))]
-    laid = []
-    for number, span in enumerate(spans):
-        laid.extend(sets_among(asked.read, span, ground.read_in(over) + (other if number < k else one)))
-    refuse_least("set", laid)
     if not ground.idle(over):
         refuse_least("deed", [asked.span(asked.path + (0,))[:2]])
-    loud = [number for number, thing in enumerate(things) if not ground.quiet(thing)]
+    loud = [number for number, thing in enumerate(body[1]) if not ground.quiet(thing)]
     if [number for number in loud if number < k]:
-        refuse_least("deed", [spans[number][:2] for number in loud if number >= k])
+        # The do's number is 1, its things are its children.
+        refuse_least("deed", [asked.span(asked.path + (1, number))[:2] for number in loud if number >= k])
 
 
 def parted(program, part, at, k):
